@@ -115,6 +115,12 @@ func TestHas(t *testing.T) {
 			t.Errorf("Has(%d)", x)
 		}
 	}
+	first := of(t, ends(0, 1, 128, 129))
+	for x := -2; x < 300; x++ {
+		if first.Has(x) != (x == 0 || x == 128) {
+			t.Errorf("the first: Has(%d)", x)
+		}
+	}
 }
 
 // TestAsSetsDo: bitmaps do what sets of runs do.

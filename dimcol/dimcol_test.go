@@ -264,6 +264,9 @@ func TestNilColumn(t *testing.T) {
 	if c.Len() != 0 || s != "" || ok || c.Dict().Len() != 0 || len(c.Rows("")) != 0 || len(c.Rows("a")) != 0 {
 		t.Error("it has no rows")
 	}
+	if !bytes.Equal(c.Bytes(), of(t).Bytes()) {
+		t.Errorf("its bytes: %x", c.Bytes())
+	}
 }
 
 func TestNewMemory(t *testing.T) {
