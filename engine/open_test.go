@@ -133,6 +133,11 @@ func TestTornJournal(t *testing.T) {
 	want := state(open(t, v.Copy()))
 	for _, tail := range [][]byte{{0}, good[:3], {255, 255}, append([]byte{2, 9}, good...)} {
 		w := with(t, v, 1<<16, m.Journal, append(slices.Clone(good), tail...))
+		broken := w.Copy()
+		must(t, broken.Arm(2))
+		if e, bad := engine.Open(broken); e != nil || bad != api.ErrStore {
+			t.Errorf("%x: it broke: %v", tail, bad)
+		}
 		e := open(t, w)
 		name := "j" + number("", m.Next)[1:]
 		now, _ := e.Manifest()

@@ -9,6 +9,7 @@ import (
 	"columbary/api"
 	"columbary/engine"
 	"columbary/group"
+	"columbary/manifest"
 	"columbary/parser"
 	"columbary/policy"
 	"columbary/rows"
@@ -329,7 +330,7 @@ func TestNoRoom(t *testing.T) {
 			before, bytes, told := state(e), files(v), answers(e)
 			bad := act(e)
 			if bad == api.OK {
-				if state(e) != want[i+1] {
+				if state(e) != want[i+1] || state(open(t, v.Crash(0))) != want[i+1] {
 					t.Fatalf("room %d, act %d: %s", room, i, state(e))
 				}
 				continue
@@ -379,11 +380,37 @@ func TestArmedAgain(t *testing.T) {
 		for _, n := range told {
 			sum += n
 		}
-		for _, x := range []*engine.Engine{e, open(t, v.Crash(0)), open(t, v.Crash(1<<20))} {
+		if l := e.Rows(0, -1); len(l) != 1 || l[0].Aggs[0].Sum != sum {
+			t.Fatalf("fuse %d: %v, want %d", fuse, l, sum)
+		}
+		for _, x := range []*engine.Engine{open(t, v.Crash(0)), open(t, v.Crash(1<<20))} {
 			l := x.Rows(0, -1)
 			if len(l) != 1 || l[0].Aggs[0].Sum != sum && l[0].Aggs[0].Sum != sum+broke {
 				t.Fatalf("fuse %d: %v, want %d, or %d more", fuse, l, sum, broke)
 			}
 		}
+	}
+}
+
+// TestTooManyRows: what no file can have is not merged, and nothing has changed.
+func TestTooManyRows(t *testing.T) {
+	v := fresh(t, api.MaxFile)
+	e := open(t, v)
+	p := api.Policy{Tiers: []api.Tier{{Gran: 1, Dims: []string{"a"}}}, Horizon: api.MaxTime}
+	must(t, e.Configure(api.Schema{Dims: []string{"a"}}, p), e.Tick(api.MaxRows))
+	for i := range api.MaxRows + 1 {
+		must(t, e.Ingest(api.Event{Time: i, Dims: []string{"x"}}))
+	}
+	m, _ := e.Manifest()
+	names := v.List()
+	if bad := e.Merge(); bad == api.OK {
+		t.Fatal("it is merged")
+	}
+	now, _ := e.Manifest()
+	if !manifest.Same(now, m) || !slices.Equal(v.List(), names) || len(e.Rows(0, -1)) != api.MaxRows+1 {
+		t.Errorf("%v, %v", now, v.List())
+	}
+	if g, bad := e.Query("select count from 0 to 70000"); bad != api.OK || g[0].Terms[0] != api.MaxRows+1 {
+		t.Errorf("%v, %v", g, bad)
 	}
 }

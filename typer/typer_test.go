@@ -53,6 +53,10 @@ func TestTyped(t *testing.T) {
 			t.Errorf("%d: %v", i, e)
 		}
 	}
+	six := []string{"a", "b", "c", "d", "e", "f"}
+	if e := typer.Check(api.Schema{Dims: six}, api.Query{Terms: []api.Term{{}}, To: 1, By: six}); e != api.OK {
+		t.Errorf("six names: %v", e)
+	}
 	if e := typer.Check(api.Schema{}, api.Query{Terms: []api.Term{{}}, To: 1}); e != api.OK {
 		t.Errorf("no dimension: %v", e)
 	}
@@ -137,10 +141,11 @@ func TestUsed(t *testing.T) {
 		}
 	}
 	q := usual()
-	q.By = []string{"a", "b", "c"}
-	typer.Used(schema(), q)[0] = "z"
-	if q.By[0] != "a" {
-		t.Error("shared")
+	names := []string{"a", "b", "z", "z", "z"}
+	q.By = names[:2]
+	typer.Used(schema(), q)[0] = "y"
+	if !slices.Equal(names, []string{"a", "b", "z", "z", "z"}) {
+		t.Errorf("written into: %v", names)
 	}
 }
 
