@@ -414,3 +414,35 @@ func TestTooManyRows(t *testing.T) {
 		t.Errorf("%v, %v", g, bad)
 	}
 }
+
+// TestNoRoomForAFile: a file that is greater than a manifest finds no room, where a manifest would.
+func TestNoRoomForAFile(t *testing.T) {
+	fulls, built := 0, 0
+	one := api.Policy{Tiers: []api.Tier{{Gran: 5, Dims: []string{"a", "b"}}}, Horizon: 100}
+	for free := 0; free < 2600; free += 13 {
+		v := fresh(t, 1<<16)
+		e := open(t, v)
+		must(t, e.Configure(schema(), one), e.Tick(90))
+		for i := range 60 {
+			must(t, e.Ingest(event(i+30, string(rune('a'+i%7))+","+string(rune('a'+i%11)), i*i)))
+		}
+		must(t, v.Append("fill", make([]byte, v.Free()-free)))
+		before, bytes := state(e), files(v)
+		bad := e.Merge()
+		switch {
+		case bad == api.OK:
+			built++
+			before = state(e)
+		case bad != api.ErrFull || state(e) != before || files(v) != bytes:
+			t.Fatalf("%d bytes: %v, %s", free, bad, state(e))
+		default:
+			fulls++
+		}
+		if c := open(t, v.Crash(0)); state(c) != before {
+			t.Fatalf("%d bytes, %v, behind a crash: %s", free, bad, state(c))
+		}
+	}
+	if fulls < 20 || built < 20 {
+		t.Errorf("%d, %d", fulls, built)
+	}
+}
