@@ -263,7 +263,6 @@ func TestFault(t *testing.T) {
 		{"other times in the head", together([][]byte{[]byte("\x12columbary\x00\x00\x00\x02\x00"), {0}, {0}}), -1, api.ErrSegment},
 		{"something behind the head", together([][]byte{[]byte("\x12columbary\x00\x00\x00\x00\x00\x00"), {0}, {0}}), -1, api.ErrSegment},
 		{"a name that is none", together([][]byte{[]byte("\x12columbary\x02\x02A\x00\x00\x00\x00"), {0}, []byte("\x00\x02\x00\x00\x02\x00"), {0}}), -1, api.ErrSegment},
-		{"an empty name", together([][]byte{[]byte("\x12columbary\x02\x00\x00\x00\x00\x00"), {0}, []byte("\x00\x02\x00\x00\x02\x00"), {0}}), -1, api.ErrSegment},
 		{"no counts", together([][]byte{[]byte("\x12columbary\x00\x00\x00\x00\x00"), {0}}), 2, api.ErrCheck},
 		{"times that fall", together(blocks(s, []api.Row{l[1], l[0]})), -1, api.ErrSegment},
 	}
